@@ -5,10 +5,15 @@ import (
 	"slate/api"
 	"slate/chars"
 	"slate/events"
+	"slate/terminal"
 )
 
 // Term is a terminal.
-type Term struct{}
+type Term struct {
+	reader   chars.Reader
+	machine  events.Machine
+	terminal *terminal.Terminal
+}
 
 // Runes reads a text as characters (P3).
 func Runes(text string) []int {
@@ -36,22 +41,52 @@ func Events(text string) []api.Event {
 }
 
 // New makes a terminal afresh (P5).
-func New(rows int, cols int) (*Term, api.Errno) { return nil, api.OK }
+func New(rows int, cols int) (*Term, api.Errno) {
+	if rows < 1 || rows > api.MaxRows || cols < 1 || cols > api.MaxCols {
+		return nil, api.ErrSize
+	}
+	return &Term{terminal: terminal.New(rows, cols)}, api.OK
+}
 
 // Feed takes bytes (P5).
-func (t *Term) Feed(text string) {}
+func (t *Term) Feed(text string) {
+	var list []int
+	for i := range len(text) {
+		list = t.reader.Take(list[:0], text[i])
+		for _, c := range list {
+			if e, ok := t.machine.Take(c); ok {
+				t.terminal.Take(e)
+			}
+		}
+	}
+}
 
 // Look tells how it stands (P6).
-func (t *Term) Look() api.State { return api.State{} }
+func (t *Term) Look() api.State { return t.terminal.State() }
 
 // Cell tells a cell (P6).
-func (t *Term) Cell(screen int, row int, col int) (api.Cell, api.Errno) { return api.Cell{}, api.OK }
+func (t *Term) Cell(screen int, row int, col int) (api.Cell, api.Errno) {
+	if !t.terminal.HasScreen(screen) || !t.terminal.HasRow(row) || !t.terminal.HasCol(col) {
+		return api.Cell{}, api.ErrPlace
+	}
+	return t.terminal.Cell(screen, row, col), api.OK
+}
 
 // Saved tells a saved spot (P6).
-func (t *Term) Saved(screen int) (api.Spot, api.Errno) { return api.Spot{}, api.OK }
+func (t *Term) Saved(screen int) (api.Spot, api.Errno) {
+	if !t.terminal.HasScreen(screen) {
+		return api.Spot{}, api.ErrPlace
+	}
+	return t.terminal.Saved(screen), api.OK
+}
 
 // Tab tells whether there is a tab stop (P6).
-func (t *Term) Tab(col int) (bool, api.Errno) { return false, api.OK }
+func (t *Term) Tab(col int) (bool, api.Errno) {
+	if !t.terminal.HasCol(col) {
+		return false, api.ErrPlace
+	}
+	return t.terminal.Tab(col), api.OK
+}
 
 // Dump tells the bytes that draw it again (P8, P9).
 func (t *Term) Dump() string { return "" }
