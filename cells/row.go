@@ -55,18 +55,19 @@ func (r Row) split(at int) {
 		return
 	}
 	if r[at] == tailOf(r[at-1]) {
-		r[at-1], r[at] = blank(), blank()
+		r[at-1], r[at] = Blank(), Blank()
 	}
 }
 
 // wipe makes all cells blank. It asks for no halves: it is for whole rows, and for what a move left behind, where a tail may stand without its head.
 func (r Row) wipe() {
 	for i := range r {
-		r[i] = blank()
+		r[i] = Blank()
 	}
 }
 
-func blank() api.Cell { return api.Cell{Rune: ' '} }
+// Blank tells a blank cell.
+func Blank() api.Cell { return api.Cell{Rune: ' '} }
 
 func tailOf(head api.Cell) api.Cell {
 	return api.Cell{Pen: head.Pen, Part: api.Tail}

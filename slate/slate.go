@@ -2,9 +2,12 @@
 package slate
 
 import (
+	"sync"
+
 	"slate/api"
 	"slate/chars"
 	"slate/events"
+	"slate/redraw"
 	"slate/terminal"
 )
 
@@ -42,11 +45,17 @@ func Events(text string) []api.Event {
 
 // New makes a terminal afresh (P5).
 func New(rows int, cols int) (*Term, api.Errno) {
-	if rows < 1 || rows > api.MaxRows || cols < 1 || cols > api.MaxCols {
+	if !isSize(rows, cols) {
 		return nil, api.ErrSize
 	}
-	return &Term{terminal: terminal.New(rows, cols)}, api.OK
+	return afresh(rows, cols), api.OK
 }
+
+func isSize(rows, cols int) bool {
+	return 1 <= rows && rows <= api.MaxRows && 1 <= cols && cols <= api.MaxCols
+}
+
+func afresh(rows, cols int) *Term { return &Term{terminal: terminal.New(rows, cols)} }
 
 // Feed takes bytes (P5).
 func (t *Term) Feed(text string) {
@@ -89,7 +98,27 @@ func (t *Term) Tab(col int) (bool, api.Errno) {
 }
 
 // Dump tells the bytes that draw it again (P8, P9).
-func (t *Term) Dump() string { return "" }
+func (t *Term) Dump() string { return redraw.Bytes(t.terminal) }
 
 // Wall tells the bytes that draw several terminals (P10).
-func Wall(rows int, cols int, texts []string) ([]string, api.Errno) { return nil, api.OK }
+func Wall(rows int, cols int, texts []string) ([]string, api.Errno) {
+	if !isSize(rows, cols) {
+		return nil, api.ErrSize
+	}
+	if len(texts) > api.MaxWall {
+		return nil, api.ErrMany
+	}
+	dumps := make([]string, len(texts))
+	var group sync.WaitGroup
+	for i, text := range texts {
+		group.Add(1)
+		go func() {
+			defer group.Done()
+			term := afresh(rows, cols)
+			term.Feed(text)
+			dumps[i] = term.Dump()
+		}()
+	}
+	group.Wait()
+	return dumps, api.OK
+}

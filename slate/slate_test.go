@@ -87,21 +87,6 @@ func checkPlaces(t *testing.T, term *slate.Term, row, col int) {
 	}
 }
 
-func TestWallEnds(t *testing.T) {
-	for _, n := range numbers {
-		for _, count := range []int{0, 1, 16, 17, 100} {
-			texts := slices.Repeat([]string{"a\x1b[1m\xff"}, count)
-			list, no := slate.Wall(n, 5, texts)
-			if no != api.OK && len(list) > 0 {
-				t.Errorf("P1: Wall(%d, 5) of %d texts: an error and %q", n, count, list)
-			}
-			if slices.ContainsFunc(texts, func(s string) bool { return s != "a\x1b[1m\xff" }) {
-				t.Errorf("P2: Wall changed what was handed in: %q", texts)
-			}
-		}
-	}
-}
-
 // scribble writes into all of a list and its spare room.
 func scribble[T any](list []T, v T) {
 	list = list[:cap(list)]

@@ -40,7 +40,7 @@ func (t *Terminal) spelt(c int) int {
 	if t.state.Use == 1 {
 		alphabet = t.state.Second
 	}
-	if alphabet == lines {
+	if alphabet == Lines {
 		return chars.Line(c)
 	}
 	return c
@@ -81,9 +81,9 @@ func (t *Terminal) escape(e api.Event) {
 func alphabetOf(final, before int) int {
 	switch final {
 	case 'B':
-		return letters
+		return Letters
 	case '0':
-		return lines
+		return Lines
 	}
 	return before
 }
@@ -106,7 +106,7 @@ func (t *Terminal) bareEscape(final int) {
 	case 'H':
 		t.tabs[t.state.Col] = true
 	case 'c':
-		*t = *New(t.lastRow()+1, t.lastCol()+1)
+		*t = *New(t.Size())
 	}
 }
 

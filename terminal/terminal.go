@@ -6,9 +6,10 @@ import (
 	"slate/cells"
 )
 
+// The alphabets.
 const (
-	letters = 0
-	lines   = 1
+	Letters = 0
+	Lines   = 1
 )
 
 const tabEvery = 8
@@ -34,11 +35,17 @@ func New(rows, cols int) *Terminal {
 	for i := range t.screens {
 		t.screens[i].sheet = cells.NewSheet(rows, cols)
 	}
-	for col := tabEvery; col < cols; col += tabEvery {
-		t.tabs[col] = true
+	for col := range t.tabs {
+		t.tabs[col] = IsTabAfresh(col)
 	}
 	return t
 }
+
+// IsTabAfresh tells whether a terminal afresh has a stop at a column.
+func IsTabAfresh(col int) bool { return col > 0 && col%tabEvery == 0 }
+
+// Size tells how many rows and columns there are.
+func (t *Terminal) Size() (rows, cols int) { return t.lastRow() + 1, t.lastCol() + 1 }
 
 // State tells the cursor, the region, the settings and the screen that is shown.
 func (t *Terminal) State() api.State { return t.state }
